@@ -2,7 +2,6 @@ package net_test
 
 import (
 	"math"
-	"math/rand"
 	"slices"
 	"strconv"
 	"strings"
@@ -10,36 +9,12 @@ import (
 
 	"watershed/api"
 	"watershed/net"
+	"watershed/nettest"
 )
-
-// same tells whether two nets are the same; no list and an empty one are (P2).
-func same(a, b api.Net) bool {
-	return a.N == b.N && slices.Equal(a.Tail, b.Tail) && slices.Equal(a.Next, b.Next) && slices.Equal(a.Cap, b.Cap)
-}
 
 // empty tells whether a net is the zero value.
 func empty(n api.Net) bool {
-	return same(n, api.Net{})
-}
-
-// anyNet is a net of W1 by dice: plane or not, in one piece or not.
-func anyNet(r *rand.Rand, vertices, edges int) api.Net {
-	n := api.Net{N: vertices}
-	about := make([][]int, vertices)
-	for d := range 2 * edges {
-		v := r.Intn(vertices)
-		n.Tail = append(n.Tail, v)
-		n.Cap = append(n.Cap, []int{0, 1, r.Intn(1 << 31), 1 << 31}[r.Intn(4)])
-		about[v] = append(about[v], d)
-	}
-	n.Next = make([]int, 2*edges)
-	for _, l := range about {
-		r.Shuffle(len(l), func(i, j int) { l[i], l[j] = l[j], l[i] })
-		for i, d := range l {
-			n.Next[d] = l[(i+1)%len(l)]
-		}
-	}
-	return n
+	return nettest.Same(n, api.Net{})
 }
 
 func TestP101RowReads(t *testing.T) {
@@ -128,7 +103,7 @@ func TestP102ParseTakes(t *testing.T) {
 		strings.Replace(smallText, "1 4 2 5", "5 1 4 2", 1),
 	} {
 		n, at, e := net.Parse(s)
-		if !same(n, small()) || at != 0 || e != api.OK {
+		if !nettest.Same(n, small()) || at != 0 || e != api.OK {
 			t.Errorf("Parse %q: %v, %d, %v", s, n, at, e)
 		}
 	}
@@ -136,7 +111,7 @@ func TestP102ParseTakes(t *testing.T) {
 		"net 0": 0, "net 0\n": 0, "net 1\nturn": 1, "net 1\nturn\n": 1, "net 60\n" + strings.Repeat("turn\n", 60): 60,
 	} {
 		n, at, e := net.Parse(s)
-		if !same(n, api.Net{N: vertices}) || at != 0 || e != api.OK {
+		if !nettest.Same(n, api.Net{N: vertices}) || at != 0 || e != api.OK {
 			t.Errorf("Parse %q: %v, %d, %v", s, n, at, e)
 		}
 	}
@@ -243,11 +218,11 @@ func TestP102Length(t *testing.T) {
 }
 
 func TestP103ParseOfText(t *testing.T) {
-	r := rand.New(rand.NewSource(1))
+	dice := nettest.NewDice(1)
 	for range 500 {
-		n := anyNet(r, 1+r.Intn(api.MaxVertices), r.Intn(api.MaxEdges+1))
+		n := dice.Any(1+dice.Of(api.MaxVertices), dice.Of(api.MaxEdges+1))
 		m, at, e := net.Parse(net.Text(n))
-		if !same(m, n) || at != 0 || e != api.OK {
+		if !nettest.Same(m, n) || at != 0 || e != api.OK {
 			t.Fatalf("%v: %v, %d, %v", n, m, at, e)
 		}
 	}
@@ -263,7 +238,7 @@ func TestP103Greatest(t *testing.T) {
 		n.Tail, n.Cap = append(n.Tail, api.MaxVertices-1), append(n.Cap, api.MaxCap)
 		n.Next = append(n.Next, (d+1)%(2*api.MaxEdges))
 	}
-	if m, at, e := net.Parse(net.Text(n)); !same(m, n) || at != 0 || e != api.OK {
+	if m, at, e := net.Parse(net.Text(n)); !nettest.Same(m, n) || at != 0 || e != api.OK {
 		t.Errorf("%d, %v", at, e)
 	}
 }
@@ -289,63 +264,41 @@ func TestP1Text(t *testing.T) {
 }
 
 func TestP1Parse(t *testing.T) {
-	r := rand.New(rand.NewSource(2))
+	dice := nettest.NewDice(2)
 	pieces := []string{"net ", "edge ", "turn", " ", "\n", "-", "0", "1", "2", "60", "2147483648", "\x00", "\xff", "é"}
 	for range 20000 {
-		b := []byte(net.Text(anyNet(r, 1+r.Intn(4), r.Intn(5))))
-		for range r.Intn(4) {
-			i := r.Intn(len(b))
-			b = slices.Concat(b[:i], []byte(pieces[r.Intn(len(pieces))]), b[min(len(b), i+r.Intn(3)):])
+		b := []byte(net.Text(dice.Any(1+dice.Of(4), dice.Of(5))))
+		for range dice.Of(4) {
+			i := dice.Of(len(b))
+			b = slices.Concat(b[:i], []byte(pieces[dice.Of(len(pieces))]), b[min(len(b), i+dice.Of(3)):])
 		}
 		n, at, e := net.Parse(string(b))
 		if e != api.OK && (!empty(n) || at < 1 || at > strings.Count(string(b), "\n")+2) {
 			t.Fatalf("%q: %v, %d, %v", b, n, at, e)
 		}
-		if m, _, f := net.Parse(net.Text(n)); e == api.OK && (at != 0 || f != api.OK || !same(m, n)) {
+		if m, _, f := net.Parse(net.Text(n)); e == api.OK && (at != 0 || f != api.OK || !nettest.Same(m, n)) {
 			t.Fatalf("%q: %v, %d, then %v, %v", b, n, at, m, f)
 		}
 	}
 }
 
-// spare fills a list's spare room and tells the whole of it.
-func spare(l []int) []int {
-	room := l[len(l):cap(l)]
-	for i := range room {
-		room[i] = -77
-	}
-	return l[:cap(l)]
-}
-
 func TestP2HandedIn(t *testing.T) {
-	n := small()
-	n.Tail, n.Next, n.Cap = slices.Grow(n.Tail, 9), slices.Grow(n.Next, 9), slices.Grow(n.Cap, 9)
-	held := [][]int{spare(n.Tail), spare(n.Next), spare(n.Cap)}
-	before := [][]int{slices.Clone(held[0]), slices.Clone(held[1]), slices.Clone(held[2])}
+	n := nettest.Roomy(small())
+	unchanged := nettest.Watch(n.Tail, n.Next, n.Cap)
 	net.Text(n)
 	net.RowText(n.Cap...)
-	for i := range held {
-		if !slices.Equal(held[i], before[i]) {
-			t.Errorf("list %d is %v, was %v", i, held[i], before[i])
-		}
+	if !unchanged() {
+		t.Errorf("handed in %v", n)
 	}
 }
 
 func TestP2Answered(t *testing.T) {
 	n, _, _ := net.Parse(smallText)
-	for _, l := range [][]int{n.Tail, n.Next, n.Cap} {
-		whole := l[:cap(l)]
-		for i := range whole {
-			whole[i] = -77
-		}
-		if m, _, _ := net.Parse(smallText); !same(m, small()) {
-			t.Error("a later answer shares what was written over")
-		}
-	}
-	n, _, _ = net.Parse(smallText)
-	n.Tail = append(n.Tail, make([]int, cap(n.Tail)-len(n.Tail))...)
-	n.Next = append(n.Next, make([]int, cap(n.Next)-len(n.Next))...)
-	if want := small(); !slices.Equal(n.Tail[:6], want.Tail) || !slices.Equal(n.Next[:6], want.Next) || !slices.Equal(n.Cap, want.Cap) {
+	if !nettest.Apart(n.Tail, n.Next, n.Cap) {
 		t.Error("two lists of one answer share their room")
+	}
+	if m, _, _ := net.Parse(smallText); !nettest.Same(m, small()) {
+		t.Error("a later answer shares what was written over")
 	}
 }
 
