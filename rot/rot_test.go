@@ -10,29 +10,6 @@ import (
 	"watershed/rot"
 )
 
-// eye has two edges that end where they begin, at vertex 0, and two between 0 and 1.
-func eye() api.Net {
-	return api.Net{N: 2, Tail: []int{0, 0, 0, 0, 0, 1, 0, 1}, Next: []int{1, 2, 3, 4, 6, 7, 0, 5}, Cap: []int{0, 1, 2, 3, api.MaxCap, 5, 6, 7}}
-}
-
-// loops has so many edges, all of which end where they begin, at one vertex.
-func loops(edges int) api.Net {
-	n := api.Net{N: 1}
-	for d := range 2 * edges {
-		n.Tail, n.Next, n.Cap = append(n.Tail, 0), append(n.Next, (d+1)%(2*edges)), append(n.Cap, 1)
-	}
-	return n
-}
-
-// line has so many vertices, each with an edge to the next one.
-func line(vertices int) api.Net {
-	n := api.Net{N: vertices}
-	for v := range vertices - 1 {
-		n.Tail, n.Next, n.Cap = append(n.Tail, v, v+1), append(n.Next, max(2*v-1, 0), min(2*v+2, 2*vertices-3)), append(n.Cap, v, v)
-	}
-	return n
-}
-
 // wrong is a net and what Check is to say of it.
 type wrong struct {
 	net api.Net
@@ -54,15 +31,15 @@ func TestP201Takes(t *testing.T) {
 		{api.Net{N: 1, Tail: []int{}, Next: []int{}, Cap: []int{}}, api.OK},
 		{api.Net{N: 1, Tail: []int{0, 0}, Next: []int{1, 0}, Cap: []int{0, api.MaxCap}}, api.OK},
 		{api.Net{N: 2, Tail: []int{1, 0}, Next: []int{0, 1}, Cap: []int{0, 0}}, api.OK},
-		{eye(), api.OK}, {loops(api.MaxEdges), api.OK}, {line(api.MaxVertices), api.OK},
+		{nettest.Eye(), api.OK}, {nettest.Loops(api.MaxEdges), api.OK}, {nettest.Line(api.MaxVertices), api.OK},
 	})
 }
 
 func TestP201TooMany(t *testing.T) {
 	long := make([]int, 2*api.MaxEdges+1)
 	checks(t, []wrong{
-		{api.Net{N: 61}, api.TooMany}, {line(61), api.TooMany}, {api.Net{N: math.MaxInt}, api.TooMany},
-		{loops(121), api.TooMany}, {api.Net{N: 1, Tail: long}, api.TooMany},
+		{api.Net{N: 61}, api.TooMany}, {nettest.Line(61), api.TooMany}, {api.Net{N: math.MaxInt}, api.TooMany},
+		{nettest.Loops(121), api.TooMany}, {api.Net{N: 1, Tail: long}, api.TooMany},
 		// as many darts as Tail has: the other lists do not count
 		{api.Net{N: 1, Next: long, Cap: long}, api.BadDart}, {api.Net{N: 60}, api.Apart},
 	})
@@ -106,7 +83,7 @@ func TestP201BadNext(t *testing.T) {
 func TestP201TooMuch(t *testing.T) {
 	for _, most := range []int{-1, api.MaxCap + 1, math.MinInt, math.MaxInt} {
 		for d := range 8 {
-			n := eye()
+			n := nettest.Eye()
 			n.Cap[d] = most
 			checks(t, []wrong{{n, api.TooMuch}})
 		}
@@ -139,7 +116,7 @@ func TestP201Order(t *testing.T) {
 		{api.Knotted, func(n *api.Net) { n.Next[0], n.Next[2], n.Next[1] = 2, 1, 3 }},
 	}
 	for some := range 1 << len(faults) {
-		n, want := eye(), api.OK
+		n, want := nettest.Eye(), api.OK
 		for i := range slices.Backward(faults) {
 			if some>>i&1 == 1 {
 				faults[i].spoil(&n)
@@ -252,7 +229,7 @@ func TestP201ByDice(t *testing.T) {
 }
 
 func TestP202Head(t *testing.T) {
-	n := eye()
+	n := nettest.Eye()
 	for d, want := range []int{0, 0, 0, 0, 1, 0, 1, 0} {
 		if got := rot.Head(n, d); got != want {
 			t.Errorf("Head %d: %d, not %d", d, got, want)
@@ -261,7 +238,7 @@ func TestP202Head(t *testing.T) {
 }
 
 func TestP202About(t *testing.T) {
-	n := eye()
+	n := nettest.Eye()
 	for d, want := range [][]int{{0, 1, 2, 3, 4, 6}, {1, 2, 3, 4, 6, 0}, {2, 3, 4, 6, 0, 1}, {3, 4, 6, 0, 1, 2}, {4, 6, 0, 1, 2, 3}, {5, 7}, {6, 0, 1, 2, 3, 4}, {7, 5}} {
 		if got := rot.About(n, d); !slices.Equal(got, want) {
 			t.Errorf("About %d: %v, not %v", d, got, want)
@@ -270,7 +247,7 @@ func TestP202About(t *testing.T) {
 }
 
 func TestP202Faces(t *testing.T) {
-	n := eye()
+	n := nettest.Eye()
 	for d, want := range [][]int{{0, 2, 4, 7}, {1}, {2, 4, 7, 0}, {3}, {4, 7, 0, 2}, {5, 6}, {6, 5}, {7, 0, 2, 4}} {
 		if got := rot.Face(n, d); !slices.Equal(got, want) {
 			t.Errorf("Face %d: %v, not %v", d, got, want)
@@ -283,7 +260,7 @@ func TestP202Faces(t *testing.T) {
 	}{
 		{n, []int{0, 1, 0, 2, 0, 3, 3, 0}, 4},
 		{api.Net{}, nil, 1}, {api.Net{N: 1}, nil, 1}, {api.Net{N: 60}, nil, 1},
-		{loops(1), []int{0, 1}, 2}, {line(3), []int{0, 0, 0, 0}, 1},
+		{nettest.Loops(1), []int{0, 1}, 2}, {nettest.Line(3), []int{0, 0, 0, 0}, 1},
 		// on no plane: two rings through one another
 		{api.Net{N: 1, Tail: make([]int, 4), Next: []int{2, 3, 1, 0}, Cap: make([]int, 4)}, []int{0, 0, 0, 0}, 1},
 		// in two pieces: each has its own faces
@@ -301,8 +278,8 @@ func TestP202Parts(t *testing.T) {
 		of   []int
 		many int
 	}{
-		{api.Net{}, nil, 0}, {api.Net{N: 1}, []int{0}, 1}, {api.Net{N: 3}, []int{0, 1, 2}, 3}, {eye(), []int{0, 0}, 1},
-		{line(60), make([]int, 60), 1},
+		{api.Net{}, nil, 0}, {api.Net{N: 1}, []int{0}, 1}, {api.Net{N: 3}, []int{0, 1, 2}, 3}, {nettest.Eye(), []int{0, 0}, 1},
+		{nettest.Line(60), make([]int, 60), 1},
 		{api.Net{N: 5, Tail: []int{4, 1, 3, 3, 1, 0}, Next: []int{0, 4, 3, 2, 1, 5}, Cap: make([]int, 6)}, []int{0, 0, 1, 2, 0}, 3},
 		{api.Net{N: 4, Tail: []int{3, 1, 2, 0}, Next: []int{0, 1, 2, 3}, Cap: make([]int, 4)}, []int{0, 1, 0, 1}, 2},
 	} {
@@ -313,9 +290,9 @@ func TestP202Parts(t *testing.T) {
 }
 
 func TestP202Turn(t *testing.T) {
-	want := eye()
+	want := nettest.Eye()
 	want.Next = []int{6, 0, 1, 2, 3, 7, 4, 5}
-	for _, c := range [][2]api.Net{{{}, {}}, {{N: 7}, {N: 7}}, {eye(), want}, {want, eye()}, {loops(1), loops(1)}} {
+	for _, c := range [][2]api.Net{{{}, {}}, {{N: 7}, {N: 7}}, {nettest.Eye(), want}, {want, nettest.Eye()}, {nettest.Loops(1), nettest.Loops(1)}} {
 		if got := rot.Turn(c[0]); !nettest.Same(got, c[1]) {
 			t.Errorf("Turn %v: %v", c[0], got)
 		}
@@ -427,7 +404,7 @@ func TestP1(t *testing.T) {
 }
 
 func TestP2HandedIn(t *testing.T) {
-	n := nettest.Roomy(eye())
+	n := nettest.Roomy(nettest.Eye())
 	unchanged := nettest.Watch(n.Tail, n.Next, n.Cap)
 	for d := range n.Tail {
 		all(n, d)
@@ -438,7 +415,7 @@ func TestP2HandedIn(t *testing.T) {
 }
 
 func TestP2Answered(t *testing.T) {
-	n := eye()
+	n := nettest.Eye()
 	of, _ := rot.Faces(n)
 	parts, _ := rot.Parts(n)
 	m := rot.Turn(n)

@@ -1,0 +1,26 @@
+package nettest
+
+import "watershed/api"
+
+// Eye has two edges that end where they begin, at vertex 0, and two between 0 and 1.
+func Eye() api.Net {
+	return api.Net{N: 2, Tail: []int{0, 0, 0, 0, 0, 1, 0, 1}, Next: []int{1, 2, 3, 4, 6, 7, 0, 5}, Cap: []int{0, 1, 2, 3, api.MaxCap, 5, 6, 7}}
+}
+
+// Loops has so many edges, all of which end where they begin, at one vertex.
+func Loops(edges int) api.Net {
+	n := api.Net{N: 1}
+	for d := range 2 * edges {
+		n.Tail, n.Next, n.Cap = append(n.Tail, 0), append(n.Next, (d+1)%(2*edges)), append(n.Cap, 1)
+	}
+	return n
+}
+
+// Line has so many vertices, each with an edge to the next one.
+func Line(vertices int) api.Net {
+	n := api.Net{N: vertices}
+	for v := range vertices - 1 {
+		n.Tail, n.Next, n.Cap = append(n.Tail, v, v+1), append(n.Next, max(2*v-1, 0), min(2*v+2, 2*vertices-3)), append(n.Cap, v, v)
+	}
+	return n
+}
