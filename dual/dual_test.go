@@ -11,18 +11,8 @@ import (
 	"watershed/rot"
 )
 
-// fence has a ring at vertex 0, with vertex 1 hung within it and vertex 2 without.
-func fence() api.Net {
-	return api.Net{N: 3, Tail: []int{0, 0, 0, 1, 0, 2}, Next: []int{2, 4, 1, 3, 0, 5}, Cap: []int{1, 2, 3, 4, 5, 6}}
-}
-
-// twig has an edge between 0 and 1, 2 hung on 0, 3 on 1: about its one face both 0 and 1 are met twice, the row is 0 4 5 1 2 3.
-func twig() api.Net {
-	return api.Net{N: 4, Tail: []int{0, 1, 0, 2, 1, 3}, Next: []int{2, 4, 0, 3, 1, 5}, Cap: []int{1, 2, 3, 4, 5, 6}}
-}
-
 func TestKnownArePlane(t *testing.T) {
-	for _, n := range []api.Net{fence(), twig()} {
+	for _, n := range []api.Net{nettest.Fence(), nettest.Twig()} {
 		if e := rot.Check(n); e != api.OK {
 			t.Errorf("%v: %v", n, e)
 		}
@@ -37,7 +27,7 @@ func TestP301Make(t *testing.T) {
 		{eye, api.Net{N: 4, Tail: []int{0, 1, 0, 2, 0, 3, 3, 0}, Next: []int{2, 1, 4, 3, 7, 6, 5, 0}, Cap: eye.Cap}},
 		{ring, api.Net{N: 2, Tail: []int{0, 1}, Next: []int{0, 1}, Cap: ring.Cap}},
 		{line, api.Net{N: 1, Tail: []int{0, 0, 0, 0}, Next: []int{2, 0, 3, 1}, Cap: line.Cap}},
-		{fence(), api.Net{N: 2, Tail: []int{0, 1, 1, 1, 0, 0}, Next: []int{4, 2, 3, 1, 5, 0}, Cap: fence().Cap}},
+		{nettest.Fence(), api.Net{N: 2, Tail: []int{0, 1, 1, 1, 0, 0}, Next: []int{4, 2, 3, 1, 5, 0}, Cap: nettest.Fence().Cap}},
 	} {
 		if got := dual.Make(c.net); !nettest.Same(got, c.want) {
 			t.Errorf("Make %v: %v, not %v", c.net, got, c.want)
@@ -86,13 +76,13 @@ func TestP301Shared(t *testing.T) {
 	}{
 		{nettest.Eye(), 0, 1, 0, true}, {nettest.Eye(), 1, 0, 0, true},
 		{nettest.Line(60), 0, 59, 0, true}, {nettest.Line(60), 59, 31, 0, true},
-		{fence(), 0, 1, 1, true}, {fence(), 1, 0, 1, true}, {fence(), 0, 2, 0, true}, {fence(), 2, 0, 0, true},
-		{fence(), 1, 2, 0, false}, {fence(), 2, 1, 0, false},
+		{nettest.Fence(), 0, 1, 1, true}, {nettest.Fence(), 1, 0, 1, true}, {nettest.Fence(), 0, 2, 0, true}, {nettest.Fence(), 2, 0, 0, true},
+		{nettest.Fence(), 1, 2, 0, false}, {nettest.Fence(), 2, 1, 0, false},
 		// s is t
-		{fence(), 0, 0, 0, false}, {fence(), 1, 1, 0, false}, {api.Net{N: 1}, 0, 0, 0, false}, {fence(), -1, -1, 0, false}, {fence(), 3, 3, 0, false},
+		{nettest.Fence(), 0, 0, 0, false}, {nettest.Fence(), 1, 1, 0, false}, {api.Net{N: 1}, 0, 0, 0, false}, {nettest.Fence(), -1, -1, 0, false}, {nettest.Fence(), 3, 3, 0, false},
 		// no vertices
-		{api.Net{N: 1}, 0, 1, 0, false}, {fence(), 0, 3, 0, false}, {fence(), 3, 0, 0, false}, {fence(), 0, -1, 0, false}, {fence(), -1, 1, 0, false},
-		{fence(), 3, 4, 0, false}, {fence(), math.MinInt, math.MaxInt, 0, false}, {fence(), 0, math.MaxInt, 0, false},
+		{api.Net{N: 1}, 0, 1, 0, false}, {nettest.Fence(), 0, 3, 0, false}, {nettest.Fence(), 3, 0, 0, false}, {nettest.Fence(), 0, -1, 0, false}, {nettest.Fence(), -1, 1, 0, false},
+		{nettest.Fence(), 3, 4, 0, false}, {nettest.Fence(), math.MinInt, math.MaxInt, 0, false}, {nettest.Fence(), 0, math.MaxInt, 0, false},
 	} {
 		if face, is := dual.Shared(c.net, c.s, c.t); face != c.face || is != c.is {
 			t.Errorf("Shared %v, %d, %d: %d, %v", c.net, c.s, c.t, face, is)
@@ -155,16 +145,16 @@ func TestP302Split(t *testing.T) {
 	}{
 		{net: nettest.Line(2), s: 0, t: 1, of: []int{0, 1}, faces: 2, a: 0, b: 1},
 		{net: nettest.Line(2), s: 1, t: 0, of: []int{1, 0}, faces: 2, a: 0, b: 1},
-		{net: fence(), s: 0, t: 1, of: []int{0, 1, 1, 2, 0, 0}, faces: 3, a: 1, b: 2},
-		{net: fence(), s: 1, t: 0, of: []int{0, 2, 2, 1, 0, 0}, faces: 3, a: 1, b: 2},
-		{net: fence(), s: 2, t: 0, of: []int{2, 1, 1, 1, 2, 0}, faces: 3, a: 0, b: 2},
+		{net: nettest.Fence(), s: 0, t: 1, of: []int{0, 1, 1, 2, 0, 0}, faces: 3, a: 1, b: 2},
+		{net: nettest.Fence(), s: 1, t: 0, of: []int{0, 2, 2, 1, 0, 0}, faces: 3, a: 1, b: 2},
+		{net: nettest.Fence(), s: 2, t: 0, of: []int{2, 1, 1, 1, 2, 0}, faces: 3, a: 0, b: 2},
 		{net: nettest.Eye(), s: 0, t: 1, of: []int{0, 1, 0, 2, 0, 3, 3, 4}, faces: 5, a: 0, b: 4},
 		{net: nettest.Eye(), s: 1, t: 0, of: []int{4, 1, 4, 2, 4, 3, 3, 0}, faces: 5, a: 0, b: 4},
-		{net: twig(), s: 0, t: 1, of: []int{0, 1, 1, 1, 1, 1}, faces: 2, a: 0, b: 1},
-		{net: twig(), s: 1, t: 0, of: []int{1, 0, 1, 1, 0, 0}, faces: 2, a: 0, b: 1},
-		{net: twig(), s: 2, t: 1, of: []int{0, 1, 1, 0, 1, 1}, faces: 2, a: 0, b: 1},
-		{net: twig(), s: 3, t: 2, of: []int{1, 0, 0, 1, 1, 0}, faces: 2, a: 0, b: 1},
-		{net: twig(), s: 2, t: 3, of: []int{0, 1, 1, 0, 0, 1}, faces: 2, a: 0, b: 1},
+		{net: nettest.Twig(), s: 0, t: 1, of: []int{0, 1, 1, 1, 1, 1}, faces: 2, a: 0, b: 1},
+		{net: nettest.Twig(), s: 1, t: 0, of: []int{1, 0, 1, 1, 0, 0}, faces: 2, a: 0, b: 1},
+		{net: nettest.Twig(), s: 2, t: 1, of: []int{0, 1, 1, 0, 1, 1}, faces: 2, a: 0, b: 1},
+		{net: nettest.Twig(), s: 3, t: 2, of: []int{1, 0, 0, 1, 1, 0}, faces: 2, a: 0, b: 1},
+		{net: nettest.Twig(), s: 2, t: 3, of: []int{0, 1, 1, 0, 0, 1}, faces: 2, a: 0, b: 1},
 	} {
 		of, faces, a, b, is := dual.Split(c.net, c.s, c.t)
 		if !is || !slices.Equal(of, c.of) || faces != c.faces || a != c.a || b != c.b {
@@ -178,8 +168,8 @@ func TestP302False(t *testing.T) {
 		net  api.Net
 		s, t int
 	}{
-		{api.Net{N: 1}, 0, 0}, {api.Net{N: 1}, 0, 1}, {fence(), 1, 2}, {fence(), 2, 1}, {fence(), 1, 1},
-		{fence(), 0, 3}, {fence(), -1, 0}, {fence(), math.MaxInt, 0}, {fence(), 0, math.MinInt},
+		{api.Net{N: 1}, 0, 0}, {api.Net{N: 1}, 0, 1}, {nettest.Fence(), 1, 2}, {nettest.Fence(), 2, 1}, {nettest.Fence(), 1, 1},
+		{nettest.Fence(), 0, 3}, {nettest.Fence(), -1, 0}, {nettest.Fence(), math.MaxInt, 0}, {nettest.Fence(), 0, math.MinInt},
 	} {
 		if of, faces, a, b, is := dual.Split(c.net, c.s, c.t); is || len(of) > 0 || faces != 0 || a != 0 || b != 0 {
 			t.Errorf("Split %v, %d, %d: %v, %d, %d, %d, %v", c.net, c.s, c.t, of, faces, a, b, is)
@@ -255,7 +245,7 @@ func byLeast(n api.Net) api.Net {
 
 func TestP303MakeOfMake(t *testing.T) {
 	dice := nettest.NewDice(303)
-	nets := []api.Net{{N: 1}, nettest.Eye(), fence(), twig(), nettest.Loops(1), nettest.Loops(api.MaxEdges), nettest.Line(api.MaxVertices)}
+	nets := []api.Net{{N: 1}, nettest.Eye(), nettest.Fence(), nettest.Twig(), nettest.Loops(1), nettest.Loops(api.MaxEdges), nettest.Line(api.MaxVertices)}
 	for range 500 {
 		nets = append(nets, dice.Plane(dice.Of(api.MaxEdges+1)))
 	}
@@ -284,26 +274,16 @@ func all(n api.Net, s, t int) {
 
 func TestP1(t *testing.T) {
 	dice := nettest.NewDice(1)
-	number := func() int {
-		return []int{math.MinInt, -1, 0, 1, 2, 3, 61, math.MaxInt}[dice.Of(8)]
-	}
-	list := func() []int {
-		var l []int
-		for range dice.Of(5) {
-			l = append(l, number())
-		}
-		return l
-	}
 	for range 20000 {
-		all(api.Net{N: number(), Tail: list(), Next: list(), Cap: list()}, number(), number())
+		all(dice.Junk(), dice.Wild(), dice.Wild())
 	}
 	// lists that lead nowhere out of themselves, and are rounds or not
 	for range 5000 {
 		n := dice.Any(3, 4)
 		n.Next[dice.Of(8)] = dice.Of(8)
-		n.Tail[dice.Of(8)] = number()
+		n.Tail[dice.Of(8)] = dice.Wild()
 		all(n, dice.Of(3), dice.Of(3))
-		all(n, number(), number())
+		all(n, dice.Wild(), dice.Wild())
 	}
 	long := make([]int, 1001)
 	all(api.Net{N: 1, Tail: long, Next: long, Cap: long}, 0, 1)
@@ -312,7 +292,7 @@ func TestP1(t *testing.T) {
 }
 
 func TestP2HandedIn(t *testing.T) {
-	for _, n := range []api.Net{nettest.Eye(), fence(), twig()} {
+	for _, n := range []api.Net{nettest.Eye(), nettest.Fence(), nettest.Twig()} {
 		n = nettest.Roomy(n)
 		unchanged := nettest.Watch(n.Tail, n.Next, n.Cap)
 		for s := range n.N {

@@ -24,3 +24,13 @@ func Line(vertices int) api.Net {
 	}
 	return n
 }
+
+// Fence has a ring at vertex 0, with vertex 1 hung within it and vertex 2 without.
+func Fence() api.Net {
+	return api.Net{N: 3, Tail: []int{0, 0, 0, 1, 0, 2}, Next: []int{2, 4, 1, 3, 0, 5}, Cap: []int{1, 2, 3, 4, 5, 6}}
+}
+
+// Twig has an edge between 0 and 1, 2 hung on 0, 3 on 1: about its one face both 0 and 1 are met twice, the row is 0 4 5 1 2 3.
+func Twig() api.Net {
+	return api.Net{N: 4, Tail: []int{0, 1, 0, 2, 1, 3}, Next: []int{2, 4, 0, 3, 1, 5}, Cap: []int{1, 2, 3, 4, 5, 6}}
+}

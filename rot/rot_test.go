@@ -379,18 +379,8 @@ func all(n api.Net, d int) {
 
 func TestP1(t *testing.T) {
 	dice := nettest.NewDice(1)
-	number := func() int {
-		return []int{math.MinInt, -1, 0, 1, 2, 3, 61, math.MaxInt}[dice.Of(8)]
-	}
-	list := func() []int {
-		var l []int
-		for range dice.Of(5) {
-			l = append(l, number())
-		}
-		return l
-	}
 	for range 20000 {
-		all(api.Net{N: number(), Tail: list(), Next: list(), Cap: list()}, number())
+		all(dice.Junk(), dice.Wild())
 	}
 	for range 2000 {
 		n := dice.Any(3, 4)

@@ -335,18 +335,8 @@ func all(n api.Net, up []int, v int) {
 
 func TestP1(t *testing.T) {
 	dice := nettest.NewDice(1)
-	number := func() int {
-		return []int{math.MinInt, -1, 0, 1, 2, 3, 61, math.MaxInt}[dice.Of(8)]
-	}
-	list := func() []int {
-		var l []int
-		for range dice.Of(5) {
-			l = append(l, number())
-		}
-		return l
-	}
 	for range 20000 {
-		all(api.Net{N: number(), Tail: list(), Next: list(), Cap: list()}, list(), number())
+		all(dice.Junk(), dice.Wilds(), dice.Wild())
 	}
 	// ups that are none, of nets that hang together or not
 	for range 20000 {
