@@ -34,3 +34,20 @@ func Fence() api.Net {
 func Twig() api.Net {
 	return api.Net{N: 4, Tail: []int{0, 1, 0, 2, 1, 3}, Next: []int{2, 4, 0, 3, 1, 5}, Cap: []int{1, 2, 3, 4, 5, 6}}
 }
+
+// Bundle has as many edges between 0 and 1 as there are numbers, side by side: each holds its number there, and one less back.
+func Bundle(hold ...int) api.Net {
+	n := api.Net{N: 2}
+	darts := 2 * len(hold)
+	for e, most := range hold {
+		n.Tail = append(n.Tail, 0, 1)
+		n.Next = append(n.Next, (2*e+2)%darts, (2*e-1+darts)%darts)
+		n.Cap = append(n.Cap, most, max(0, most-1))
+	}
+	return n
+}
+
+// Crossing is a ring 0 1 2 3, with a way across from 0 to 2 within it: each edge holds so much there and back that no two darts hold the same.
+func Crossing() api.Net {
+	return api.Net{N: 4, Tail: []int{0, 1, 1, 2, 2, 3, 3, 0, 0, 2}, Next: []int{8, 2, 1, 4, 9, 6, 5, 0, 7, 3}, Cap: []int{1, 20, 3, 40, 5, 60, 7, 80, 9, 100}}
+}

@@ -12,25 +12,8 @@ import (
 	"watershed/rot"
 )
 
-// bundle has as many edges between 0 and 1 as there are numbers, side by side: each holds its number there, and one less back.
-func bundle(hold ...int) api.Net {
-	n := api.Net{N: 2}
-	darts := 2 * len(hold)
-	for e, most := range hold {
-		n.Tail = append(n.Tail, 0, 1)
-		n.Next = append(n.Next, (2*e+2)%darts, (2*e-1+darts)%darts)
-		n.Cap = append(n.Cap, most, max(0, most-1))
-	}
-	return n
-}
-
-// crossing is a ring 0 1 2 3, with a way across from 0 to 2 within it: each edge holds so much there and back that no two darts hold the same.
-func crossing() api.Net {
-	return api.Net{N: 4, Tail: []int{0, 1, 1, 2, 2, 3, 3, 0, 0, 2}, Next: []int{8, 2, 1, 4, 9, 6, 5, 0, 7, 3}, Cap: []int{1, 20, 3, 40, 5, 60, 7, 80, 9, 100}}
-}
-
 func TestKnownArePlane(t *testing.T) {
-	for _, n := range []api.Net{bundle(1), bundle(1, 2), bundle(1, 2, 3), bundle(make([]int, api.MaxEdges)...), crossing()} {
+	for _, n := range []api.Net{nettest.Bundle(1), nettest.Bundle(1, 2), nettest.Bundle(1, 2, 3), nettest.Bundle(make([]int, api.MaxEdges)...), nettest.Crossing()} {
 		if e := rot.Check(n); e != api.OK {
 			t.Errorf("%v: %v", n, e)
 		}
@@ -46,15 +29,15 @@ func TestP801Known(t *testing.T) {
 		value        int
 	}{
 		// one edge, of which there and back are not the same; it may hold nothing, or as much as may be
-		{bundle(5), 0, 1, []int{0, 5}, []int{5, -5}, 5},
-		{bundle(5), 1, 0, []int{0, 4}, []int{-4, 4}, 4},
-		{bundle(0), 0, 1, []int{0, 0}, []int{0, 0}, 0},
-		{bundle(most), 0, 1, []int{0, most}, []int{most, -most}, most},
+		{nettest.Bundle(5), 0, 1, []int{0, 5}, []int{5, -5}, 5},
+		{nettest.Bundle(5), 1, 0, []int{0, 4}, []int{-4, 4}, 4},
+		{nettest.Bundle(0), 0, 1, []int{0, 0}, []int{0, 0}, 0},
+		{nettest.Bundle(most), 0, 1, []int{0, most}, []int{most, -most}, most},
 		// all faces are shared: the least one is parted
-		{bundle(3, 4), 0, 1, []int{0, 3, 7}, []int{3, -3, 4, -4}, 7},
-		{bundle(3, 4), 1, 0, []int{0, 3, 5}, []int{-2, 2, -3, 3}, 5},
-		{bundle(3, 4, 6), 0, 1, []int{0, 3, 7, 13}, []int{3, -3, 4, -4, 6, -6}, 13},
-		{bundle(3, 4, 6), 1, 0, []int{0, 8, 5, 10}, []int{-2, 2, -3, 3, -5, 5}, 10},
+		{nettest.Bundle(3, 4), 0, 1, []int{0, 3, 7}, []int{3, -3, 4, -4}, 7},
+		{nettest.Bundle(3, 4), 1, 0, []int{0, 3, 5}, []int{-2, 2, -3, 3}, 5},
+		{nettest.Bundle(3, 4, 6), 0, 1, []int{0, 3, 7, 13}, []int{3, -3, 4, -4, 6, -6}, 13},
+		{nettest.Bundle(3, 4, 6), 1, 0, []int{0, 8, 5, 10}, []int{-2, 2, -3, 3, -5, 5}, 10},
 		// rings and another vertex's edge are gone round by the faces, for nothing
 		{nettest.Eye(), 0, 1, []int{0, 0, 2, most, most + 6}, []int{0, 0, 2, -2, most, -most, 6, -6}, most + 6},
 		{nettest.Fence(), 0, 1, []int{2, 0, 3}, []int{-2, 2, 3, -3, 0, 0}, 3},
@@ -69,8 +52,8 @@ func TestP801Known(t *testing.T) {
 		{nettest.Line(4), 1, 3, []int{0, 1}, []int{0, 0, 1, -1, 1, -1}, 1},
 		{nettest.Line(4), 0, 3, []int{0, 0}, []int{0, 0, 0, 0, 0, 0}, 0},
 		// there and back hold so unlike each other that the way is long
-		{crossing(), 0, 2, []int{0, 1, 10, 70}, []int{1, -1, 1, -1, -60, 60, -60, 60, 9, -9}, 70},
-		{crossing(), 1, 3, []int{0, 3, 5, 23}, []int{-20, 20, 3, -3, 5, -5, -18, 18, 2, -2}, 23},
+		{nettest.Crossing(), 0, 2, []int{0, 1, 10, 70}, []int{1, -1, 1, -1, -60, 60, -60, 60, 9, -9}, 70},
+		{nettest.Crossing(), 1, 3, []int{0, 3, 5, 23}, []int{-20, 20, 3, -3, 5, -5, -18, 18, 2, -2}, 23},
 	} {
 		height, e := rim.Heights(c.net, c.s, c.t)
 		flow, value, g := rim.Flow(c.net, c.s, c.t)
@@ -82,7 +65,7 @@ func TestP801Known(t *testing.T) {
 
 // As many edges as there may be, each of which holds as much as may be: a face lies higher than any one of them.
 func TestP801Greatest(t *testing.T) {
-	n := bundle(slices.Repeat([]int{api.MaxCap}, api.MaxEdges)...)
+	n := nettest.Bundle(slices.Repeat([]int{api.MaxCap}, api.MaxEdges)...)
 	height, e := rim.Heights(n, 0, 1)
 	flow, value, g := rim.Flow(n, 0, 1)
 	if e != api.OK || g != api.OK || value != api.MaxEdges*api.MaxCap || len(height) != api.MaxEdges+1 {
@@ -108,24 +91,13 @@ func TestP801Greatest(t *testing.T) {
 }
 
 func TestP801Errors(t *testing.T) {
-	one, fence := api.Net{N: 1}, nettest.Fence()
-	for _, c := range []struct {
-		net  api.Net
-		s, t int
-		want api.Errno
-	}{
-		{one, 0, 0, api.SameEnds}, {one, 0, 1, api.BadVertex}, {one, 1, 0, api.BadVertex}, {nettest.Loops(3), 0, 0, api.SameEnds},
-		{fence, 0, -1, api.BadVertex}, {fence, -1, 0, api.BadVertex}, {fence, 0, 3, api.BadVertex}, {fence, 3, 0, api.BadVertex},
-		{fence, math.MinInt, 0, api.BadVertex}, {fence, 0, math.MaxInt, api.BadVertex}, {fence, math.MaxInt, math.MinInt, api.BadVertex}, {fence, 1 << 32, 1, api.BadVertex},
-		// the same, but no vertex
-		{one, 1, 1, api.BadVertex}, {fence, -1, -1, api.BadVertex}, {fence, 3, 3, api.BadVertex}, {fence, math.MaxInt, math.MaxInt, api.BadVertex},
-		{fence, 0, 0, api.SameEnds}, {fence, 1, 1, api.SameEnds}, {fence, 2, 2, api.SameEnds},
-		{fence, 1, 2, api.NoRim}, {fence, 2, 1, api.NoRim},
-	} {
-		height, e := rim.Heights(c.net, c.s, c.t)
-		flow, value, g := rim.Flow(c.net, c.s, c.t)
-		if e != c.want || g != c.want || len(height)+len(flow) > 0 || value != 0 {
-			t.Errorf("%v, %d, %d: %v, %v, %v, %d, %v", c.net, c.s, c.t, height, e, flow, value, g)
+	fence := nettest.Fence()
+	apart := []nettest.Ends{{Net: fence, S: 1, T: 2, Want: api.NoRim}, {Net: fence, S: 2, T: 1, Want: api.NoRim}}
+	for _, c := range append(nettest.WrongEnds(), apart...) {
+		height, e := rim.Heights(c.Net, c.S, c.T)
+		flow, value, g := rim.Flow(c.Net, c.S, c.T)
+		if e != c.Want || g != c.Want || len(height)+len(flow) > 0 || value != 0 {
+			t.Errorf("%v, %d, %d: %v, %v, %v, %d, %v", c.Net, c.S, c.T, height, e, flow, value, g)
 		}
 	}
 }
@@ -211,26 +183,9 @@ func greatest(n api.Net, s, t int) int {
 	}
 }
 
-// isFlow tells whether f is a flow of n from s to t (W4), of that value.
-func isFlow(n api.Net, s, t int, f []int, value int) bool {
-	if len(f) != len(n.Tail) {
-		return false
-	}
-	sums := make([]int, n.N)
-	for d, v := range n.Tail {
-		if f[d] != -f[d^1] || f[d] > n.Cap[d] {
-			return false
-		}
-		sums[v] += f[d]
-	}
-	want := make([]int, n.N)
-	want[s], want[t] = value, -value
-	return slices.Equal(sums, want)
-}
-
 func TestP802GreatestFlow(t *testing.T) {
 	dice := nettest.NewDice(802)
-	nets := []api.Net{nettest.Eye(), nettest.Fence(), nettest.Twig(), crossing(), bundle(7), bundle(1, 0, 3, 2), nettest.Line(20)}
+	nets := []api.Net{nettest.Eye(), nettest.Fence(), nettest.Twig(), nettest.Crossing(), nettest.Bundle(7), nettest.Bundle(1, 0, 3, 2), nettest.Line(20)}
 	for range 200 {
 		nets = append(nets, dice.Plane(1+dice.Of(api.MaxEdges)), dice.Plane(1+dice.Of(20)))
 	}
@@ -242,7 +197,7 @@ func TestP802GreatestFlow(t *testing.T) {
 			if e != api.OK {
 				continue
 			}
-			if !isFlow(n, s, u, flow, value) || value != greatest(n, s, u) {
+			if !nettest.IsFlow(n, s, u, flow, value) || value != greatest(n, s, u) {
 				t.Fatalf("%v, %d, %d: %v, %d, the greatest is %d", n, s, u, flow, value, greatest(n, s, u))
 			}
 			if value == 0 {
@@ -280,14 +235,14 @@ func TestP1(t *testing.T) {
 	// more vertices and more edges than a net may have
 	all(api.Net{N: math.MaxInt}, 0, math.MaxInt-1)
 	all(nettest.Line(1000), 0, 999)
-	all(bundle(make([]int, 1000)...), 0, 1)
+	all(nettest.Bundle(make([]int, 1000)...), 0, 1)
 	for _, most := range []int{math.MaxInt, math.MinInt, -1, api.MaxCap + 1} {
-		all(bundle(slices.Repeat([]int{most}, api.MaxEdges)...), 0, 1)
+		all(nettest.Bundle(slices.Repeat([]int{most}, api.MaxEdges)...), 0, 1)
 	}
 }
 
 func TestP2HandedIn(t *testing.T) {
-	for _, n := range []api.Net{nettest.Eye(), nettest.Fence(), nettest.Twig(), crossing(), bundle(3, 4, 6)} {
+	for _, n := range []api.Net{nettest.Eye(), nettest.Fence(), nettest.Twig(), nettest.Crossing(), nettest.Bundle(3, 4, 6)} {
 		n = nettest.Roomy(n)
 		unchanged := nettest.Watch(n.Tail, n.Next, n.Cap)
 		for s := range n.N {
@@ -302,7 +257,7 @@ func TestP2HandedIn(t *testing.T) {
 }
 
 func TestP2Answered(t *testing.T) {
-	n := nettest.Roomy(crossing())
+	n := nettest.Roomy(nettest.Crossing())
 	lists := [][]int{n.Tail, n.Next, n.Cap}
 	for range 2 {
 		height, _ := rim.Heights(n, 0, 2)
