@@ -1,7 +1,6 @@
 package flow_test
 
 import (
-	"math"
 	"slices"
 	"testing"
 
@@ -21,26 +20,9 @@ func detour() api.Net {
 	return n
 }
 
-// globe has a ring 0 1 2 3, 4 within it and 5 without: these two share no face. All that 4 sends goes to 0, the ring's edges hold 3, and to 5 go 1, 2, 3, 4.
-func globe() api.Net {
-	n := api.Net{N: 6, Tail: make([]int, 24), Next: make([]int, 24), Cap: make([]int, 24)}
-	for i := range 4 {
-		on, back, from4, to4, from5, to5 := 2*i, 2*((i+3)%4)+1, 8+2*i, 9+2*i, 16+2*i, 17+2*i
-		for _, d := range []int{on, back, to4, to5} {
-			n.Tail[d] = i
-		}
-		n.Tail[from4], n.Tail[from5] = 4, 5
-		n.Next[on], n.Next[to4], n.Next[back], n.Next[to5] = to4, back, to5, on
-		n.Next[from4], n.Next[from5] = 8+2*((i+1)%4), 16+2*((i+3)%4)
-		n.Cap[on], n.Cap[back], n.Cap[to5] = 3, 3, i+1
-	}
-	n.Cap[8] = 10
-	return n
-}
-
 // known are the nets that are tested one by one.
 func known() []api.Net {
-	return []api.Net{{N: 1}, nettest.Eye(), nettest.Fence(), nettest.Twig(), nettest.Crossing(), nettest.Loops(3), nettest.Line(20), nettest.Bundle(1, 0, 3, 2), detour(), globe()}
+	return []api.Net{{N: 1}, nettest.Eye(), nettest.Fence(), nettest.Twig(), nettest.Crossing(), nettest.Loops(3), nettest.Line(20), nettest.Bundle(1, 0, 3, 2), detour(), nettest.Globe()}
 }
 
 func TestKnownArePlane(t *testing.T) {
@@ -76,8 +58,8 @@ func TestP901MostKnown(t *testing.T) {
 		// no face is shared
 		{nettest.Fence(), 1, 2, nil, 4},
 		{nettest.Fence(), 2, 1, nil, 3},
-		{globe(), 4, 5, nil, 7},
-		{globe(), 5, 4, nil, 0},
+		{nettest.Globe(), 4, 5, nil, 7},
+		{nettest.Globe(), 5, 4, nil, 0},
 		// one way alone
 		{nettest.Twig(), 2, 3, []int{1, -1, -1, 1, 1, -1}, 1},
 		{nettest.Twig(), 3, 2, []int{-2, 2, 2, -2, -2, 2}, 2},
@@ -128,7 +110,7 @@ func TestP901MostErrors(t *testing.T) {
 
 // What is no plane net is told so, behind the errors of s and t (P8 leaves it open).
 func TestMostOfNoPlaneNet(t *testing.T) {
-	for _, n := range []api.Net{{N: 2}, {N: 61}, nettest.Line(61), {N: math.MaxInt}, {N: 2, Tail: []int{0, 1}, Next: []int{1, 0}, Cap: []int{1, 1}}} {
+	for _, n := range nettest.NoPlane() {
 		if f, value, e := flow.Most(n, 0, 1); e == api.OK || e != rot.Check(n) || len(f) > 0 || value != 0 {
 			t.Errorf("%v: %v, %d, %v", n, f, value, e)
 		}
@@ -139,32 +121,6 @@ func TestMostOfNoPlaneNet(t *testing.T) {
 			t.Errorf("%v: %v", n, e)
 		}
 	}
-}
-
-// sent tells what runs out of the vertices of in at most.
-func sent(n api.Net, in []bool) int {
-	sum := 0
-	for d, v := range n.Tail {
-		if in[v] && !in[n.Tail[d^1]] {
-			sum += n.Cap[d]
-		}
-	}
-	return sum
-}
-
-// leastCut tells what the least of all cuts holds that has s and not t.
-func leastCut(n api.Net, s, t int) int {
-	least := math.MaxInt
-	for set := range 1 << n.N {
-		in := make([]bool, n.N)
-		for v := range in {
-			in[v] = set>>v&1 == 1
-		}
-		if in[s] && !in[t] {
-			least = min(least, sent(n, in))
-		}
-	}
-	return least
 }
 
 // reached tells by passes over all darts what Reach is to answer.
@@ -195,8 +151,8 @@ func TestP901MostAllCuts(t *testing.T) {
 			continue
 		}
 		f, value, e := flow.Most(n, s, u)
-		if e != api.OK || !nettest.IsFlow(n, s, u, f, value) || value != leastCut(n, s, u) {
-			t.Fatalf("%v, %d, %d: %v, %d, %v, the least cut holds %d", n, s, u, f, value, e, leastCut(n, s, u))
+		if e != api.OK || !nettest.IsFlow(n, s, u, f, value) || value != nettest.LeastCut(n, s, u) {
+			t.Fatalf("%v, %d, %d: %v, %d, %v, the least cut holds %d", n, s, u, f, value, e, nettest.LeastCut(n, s, u))
 		}
 		if value == 0 {
 			nothing++
@@ -222,7 +178,7 @@ func TestP902(t *testing.T) {
 			}
 			f, value, e := flow.Most(n, s, u)
 			in := flow.Reach(n, s, f)
-			if e != api.OK || !nettest.IsFlow(n, s, u, f, value) || len(in) != n.N || !in[s] || in[u] || sent(n, in) != value {
+			if e != api.OK || !nettest.IsFlow(n, s, u, f, value) || len(in) != n.N || !in[s] || in[u] || nettest.Sent(n, in) != value {
 				t.Fatalf("%v, %d, %d: %v, %d, %v, %v", n, s, u, f, value, e, in)
 			}
 			if _, same, e := rim.Flow(n, s, u); e == api.OK {
@@ -371,16 +327,13 @@ func TestP1(t *testing.T) {
 		}
 		call(n, s, u, wild)
 		call(n, dice.Wild(), dice.Wild(), wild)
-		list := [][]int{n.Tail, n.Next, n.Cap}[dice.Of(3)]
-		list[dice.Of(8)] = dice.Wild()
+		dice.Spoil(n)
 		call(n, s, u, wild)
 	}
-	// more vertices and more edges than a net may have, more than a dart may hold
-	call(api.Net{N: math.MaxInt}, 0, math.MaxInt-1, nil)
-	call(nettest.Line(1000), 0, 999, make([]int, 1998))
-	call(nettest.Bundle(make([]int, 1000)...), 0, 1, make([]int, 2000))
-	for _, most := range []int{math.MaxInt, math.MinInt, -1, api.MaxCap + 1} {
-		call(nettest.Bundle(slices.Repeat([]int{most}, api.MaxEdges)...), 0, 1, slices.Repeat([]int{most}, 2*api.MaxEdges))
+	for _, n := range nettest.Beyond() {
+		call(n, 0, n.N-1, nil)
+		call(n, 0, n.N-1, make([]int, len(n.Tail)))
+		call(n, 0, n.N-1, n.Cap)
 	}
 }
 

@@ -51,3 +51,20 @@ func Bundle(hold ...int) api.Net {
 func Crossing() api.Net {
 	return api.Net{N: 4, Tail: []int{0, 1, 1, 2, 2, 3, 3, 0, 0, 2}, Next: []int{8, 2, 1, 4, 9, 6, 5, 0, 7, 3}, Cap: []int{1, 20, 3, 40, 5, 60, 7, 80, 9, 100}}
 }
+
+// Globe has a ring 0 1 2 3, 4 within it and 5 without: these two share no face. All that 4 sends goes to 0, the ring's edges hold 3, and to 5 go 1, 2, 3, 4.
+func Globe() api.Net {
+	n := api.Net{N: 6, Tail: make([]int, 24), Next: make([]int, 24), Cap: make([]int, 24)}
+	for i := range 4 {
+		on, back, from4, to4, from5, to5 := 2*i, 2*((i+3)%4)+1, 8+2*i, 9+2*i, 16+2*i, 17+2*i
+		for _, d := range []int{on, back, to4, to5} {
+			n.Tail[d] = i
+		}
+		n.Tail[from4], n.Tail[from5] = 4, 5
+		n.Next[on], n.Next[to4], n.Next[back], n.Next[to5] = to4, back, to5, on
+		n.Next[from4], n.Next[from5] = 8+2*((i+1)%4), 16+2*((i+3)%4)
+		n.Cap[on], n.Cap[back], n.Cap[to5] = 3, 3, i+1
+	}
+	n.Cap[8] = 10
+	return n
+}

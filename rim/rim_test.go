@@ -227,17 +227,12 @@ func TestP1(t *testing.T) {
 	for range 20000 {
 		n := dice.Any(3, 4)
 		all(n, dice.Of(3), dice.Of(3))
-		list := [][]int{n.Tail, n.Next, n.Cap}[dice.Of(3)]
-		list[dice.Of(8)] = dice.Wild()
+		dice.Spoil(n)
 		all(n, dice.Of(3), dice.Of(3))
 		all(n, dice.Wild(), dice.Wild())
 	}
-	// more vertices and more edges than a net may have
-	all(api.Net{N: math.MaxInt}, 0, math.MaxInt-1)
-	all(nettest.Line(1000), 0, 999)
-	all(nettest.Bundle(make([]int, 1000)...), 0, 1)
-	for _, most := range []int{math.MaxInt, math.MinInt, -1, api.MaxCap + 1} {
-		all(nettest.Bundle(slices.Repeat([]int{most}, api.MaxEdges)...), 0, 1)
+	for _, n := range nettest.Beyond() {
+		all(n, 0, n.N-1)
 	}
 }
 
